@@ -1,0 +1,1 @@
+"""Primefold: sums of powers on a small clock, and their primes."""
