@@ -1,5 +1,6 @@
-"""The document's words on sums and their writing, said once more for the tests, without the program."""
+"""The document's words on sums, their writing and reckoning, said once more for the tests, without the program."""
 
+import functools
 import itertools
 import re
 
@@ -116,3 +117,133 @@ def strangers(size):
         deep += [nested(in_list, depth, 1), nested(in_tuple, depth + 1, 1), nested(in_turns, depth, "x"),
                  nested(in_turns, depth, True), nested(in_turns, depth, None)]
     return plain + lists + wrong_parts + noughts_last + long_ones + deep
+
+
+def drawn_sums(count, most, size, seed):
+    """So many sums of up to most numbers, nought among them now and then, the same ones each time."""
+    state = seed * 1000003 + size
+    figures = []
+    while len(figures) < count * (most + 2):
+        state = (state * 6364136223846793005 + 1442695040888963407) % 2 ** 64
+        figures.append(state >> 33)
+    found = []
+    for start in range(0, len(figures), most + 2):
+        length = figures[start] % (most + 1)
+        numbers = [figure % size for figure in figures[start + 1:start + 1 + length]]
+        found.append(cut(numbers))
+    return found
+
+
+def long_sums(count, numbers, size, seed):
+    """Drawn sums of just so many numbers."""
+    drawn = drawn_sums(count, numbers - 1, size, seed)
+    return [one + (0,) * (numbers - 1 - len(one)) + (1 + place % (size - 1),) for place, one in enumerate(drawn)]
+
+
+def some_sums(size):
+    """A short row of sums for going through pairs and triples: the edges, and some of all lengths."""
+    top = size - 1
+    edges = [(), (1,), (top,), (0, 1), (1, 1), (top, top), (1, 0, 1), (0, 0, top), (1,) * 9, (top,) * 9,
+             (0,) * 8 + (1,), (1,) + (0,) * 7 + (top,), (0, 1, 0, 1), (1, top, 1, top, 1)]
+    return edges + drawn_sums(16, 9, size, 5)
+
+
+def whole_sums(length, size):
+    """All whole sums of this length, in the order of tuples."""
+    return [below + (1,) for below in itertools.product(range(size), repeat=length)]
+
+
+def cut(numbers):
+    numbers = list(numbers)
+    while numbers and numbers[-1] == 0:
+        numbers.pop()
+    return tuple(numbers)
+
+
+def added(one, other, size):
+    return cut((a + b) % size for a, b in itertools.zip_longest(one, other, fillvalue=0))
+
+
+def negative(one, size):
+    return tuple(-number % size for number in one)
+
+
+def multiplied(one, other, size):
+    """Power by power, as the document tells it."""
+    numbers = []
+    for k in range(len(one) + len(other)):
+        numbers.append(sum(one[i] * other[k - i] for i in range(len(one)) if 0 <= k - i < len(other)) % size)
+    return cut(numbers)
+
+
+def product(sums, size):
+    found = (1,)
+    for one in sums:
+        found = multiplied(found, one, size)
+    return found
+
+
+def rest(one, other, size):
+    """one, with fitting multiples of other taken away until it is shorter."""
+    left = list(one)
+    while len(left) >= len(other):
+        often = next(n for n in range(size) if (left[-1] - n * other[-1]) % size == 0)
+        shift = len(left) - len(other)
+        for place, number in enumerate(other):
+            left[shift + place] = (left[shift + place] - often * number) % size
+        left.pop()
+    return cut(left)
+
+
+def divides(part, one, size):
+    return rest(one, part, size) == ()
+
+
+def whole_part(one, size, lengths):
+    """The first whole sum of one of these lengths that divides one; None where all were tried in vain."""
+    for length in lengths:
+        for part in whole_sums(length, size):
+            if divides(part, one, size):
+                return part
+    return None
+
+
+def shares_by_trying(one, other, size):
+    """Whether some whole sum of length 1 or more divides both, by going through all that could."""
+    for length in range(1, max(len(one), len(other))):
+        for part in whole_sums(length, size):
+            if divides(part, one, size) and divides(part, other, size):
+                return True
+    return False
+
+
+def shares(one, other, size):
+    """The same without trying, for longer sums: what divides both divides the rest of the one by the other too."""
+    while other != ():
+        one, other = other, rest(one, other, size)
+    return len(one) > 1
+
+
+@functools.lru_cache(maxsize=None)
+def whole_primes(length, size):
+    """All whole sums of this length but the products of two shorter ones."""
+    made = set()
+    for shorter in range(1, length // 2 + 1):
+        for one in whole_sums(shorter, size):
+            for other in whole_sums(length - shorter, size):
+                made.add(multiplied(one, other, size))
+    return tuple(one for one in whole_sums(length, size) if one not in made)
+
+
+def is_plain_sum(thing, size):
+    """A sum by 0.4, of however many numbers; truths and lists are not let through."""
+    if type(thing) is not tuple or any(type(number) is not int for number in thing):
+        return False
+    return all(0 <= number < size for number in thing) and (thing == () or thing[-1] != 0)
+
+
+def is_plain(thing):
+    """Tuples, texts, whole numbers, truths and None, and nothing else at any depth."""
+    if type(thing) is tuple:
+        return all(is_plain(part) for part in thing)
+    return type(thing) in (str, int, bool, type(None))

@@ -15,6 +15,9 @@ BARRED = (ast.SetComp, ast.DictComp, ast.GeneratorExp, ast.NamedExpr, ast.Starre
 ALLOWED = set("""len range enumerate zip min max sum abs sorted reversed int str bool list tuple dict set frozenset
     isinstance ord repr any all divmod Exception ValueError TypeError KeyError IndexError LookupError ZeroDivisionError
     ArithmeticError OverflowError RuntimeError NotImplementedError AttributeError StopIteration""".split())
+METHODS = set("""append clear copy count endswith extend find get index insert isalnum isalpha isdigit islower isspace
+    isupper items join keys ljust lower lstrip partition pop remove replace reverse rfind rjust rpartition rsplit rstrip
+    setdefault split splitlines startswith strip update upper values zfill bit_length""".split())
 WALKS = ("range", "zip", "enumerate", "reversed")
 NO_ATTRIBUTES = ("format", "format_map", "mro", "register", "elements", "open", "input", "version_info", "sort")
 WORDS = re.compile(r"\b(type|typing|typing_extensions|enum|Enum|IntEnum|StrEnum|Flag|IntFlag|Generic|Protocol|ABC|ABCMeta"
@@ -65,6 +68,9 @@ class Language(unittest.TestCase):
             if isinstance(node, ast.FunctionDef):
                 self.assertLessEqual(node.end_lineno - node.lineno + 1, 40, place)
                 self.assertEqual(node.decorator_list, [], place)
+                for inner in ast.walk(node):
+                    if isinstance(inner, ast.Expr):
+                        self.assertIsInstance(inner.value, ast.Call, place)
                 self.assertIsNone(node.args.vararg or node.args.kwarg, place)
                 self.assertEqual(node.args.kwonlyargs, [], place)
 
@@ -79,3 +85,72 @@ class Language(unittest.TestCase):
                 self.assertRegex(node.id, r"^([A-Za-z][A-Za-z0-9_]*|__all__|__version__)$", place)
             if isinstance(node, ast.Attribute):
                 self.assertNotIn(node.attr, NO_ATTRIBUTES, place)
+
+    def test_methods(self):
+        # The package has no methods of its own, so that each attribute is one of Python's own values.
+        for place, node in self.nodes():
+            if isinstance(node, ast.Attribute):
+                self.assertIn(node.attr, METHODS, place)
+
+    def test_powers_and_texts(self):
+        for place, node in self.nodes():
+            if isinstance(node, (ast.BinOp, ast.AugAssign)) and isinstance(node.op, ast.Pow):
+                exponent = node.right if isinstance(node, ast.BinOp) else node.value
+                self.assertIsInstance(exponent, ast.Constant, place)
+                self.assertIn(exponent.value, range(65), place)
+            if isinstance(node, ast.Constant) and isinstance(node.value, str):
+                self.assertNotIn("%", node.value, place)
+            if isinstance(node, ast.Constant):
+                self.assertNotIsInstance(node.value, (float, bytes, complex), place)
+
+    def test_is_stands_beside_none_and_truths(self):
+        for place, node in self.nodes():
+            if isinstance(node, ast.Compare) and isinstance(node.ops[0], (ast.Is, ast.IsNot)):
+                self.assertIn(getattr(node.comparators[0], "value", 0), (None, True, False), place)
+
+    def test_each_name_once_at_the_top(self):
+        for path in FILES:
+            names = [name for names in self.top_names(path) for name in names]
+            self.assertEqual(sorted(names), sorted(set(names)), path.name)
+
+    def top_names(self, path):
+        for node in ast.parse(path.read_text()).body:
+            if isinstance(node, (ast.FunctionDef, ast.ClassDef)):
+                yield [node.name]
+            elif isinstance(node, ast.Assign):
+                yield [target.id for target in node.targets]
+            elif isinstance(node, ast.ImportFrom):
+                yield [alias.asname or alias.name for alias in node.names]
+
+    def test_no_local_is_called_like_a_name_of_the_top(self):
+        for path in FILES:
+            tops = [name for names in self.top_names(path) for name in names]
+            for node in ast.walk(ast.parse(path.read_text())):
+                if isinstance(node, ast.FunctionDef):
+                    for inner in ast.walk(node):
+                        if isinstance(inner, ast.arg):
+                            self.assertNotIn(inner.arg, tops, (path.name, inner.lineno))
+                        if isinstance(inner, ast.Name) and isinstance(inner.ctx, ast.Store):
+                            self.assertNotIn(inner.id, tops, (path.name, inner.lineno))
+
+    def test_imports_come_from_where_a_name_is_defined_and_go_one_way(self):
+        drawn = {}
+        for path in FILES:
+            drawn[path.stem] = set()
+            for node in ast.parse(path.read_text()).body:
+                if isinstance(node, ast.ImportFrom) and node.module != "__future__":
+                    source = node.module.split(".")[1]
+                    drawn[path.stem].add(source)
+                    defined = self.defined(FOLDER / (source + ".py"))
+                    for alias in node.names:
+                        self.assertIn(alias.name, defined, (path.name, node.lineno))
+        while drawn:
+            free = [name for name in drawn if not drawn[name] & set(drawn)]
+            self.assertNotEqual(free, [], "files draw from one another")
+            for name in free:
+                drawn.pop(name)
+
+    def defined(self, path):
+        body = ast.parse(path.read_text()).body
+        named = [node.name for node in body if isinstance(node, (ast.FunctionDef, ast.ClassDef))]
+        return named + [target.id for node in body if isinstance(node, ast.Assign) for target in node.targets]
